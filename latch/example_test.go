@@ -1,0 +1,21 @@
+package latch_test
+
+import (
+	"fmt"
+
+	"latch/latch"
+)
+
+// The README shows these calls.
+func Example() {
+	c, line, errno := latch.Read("aag 2 1 1 1 0\n2\n4 2 0\n4\n")
+	fmt.Println(line, errno)
+	text, errno := latch.Write(c)
+	fmt.Printf("%q %d\n", text, errno)
+	out, errno := latch.Run(c, []int{1, 0, 1})
+	fmt.Println(out, errno)
+	// Output:
+	// 0 0
+	// "aag 2 1 1 1 0\n2\n4 2 0\n4\n" 0
+	// [0 1 0] 0
+}
