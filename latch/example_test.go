@@ -14,8 +14,14 @@ func Example() {
 	fmt.Printf("%q %d\n", text, errno)
 	out, errno := latch.Run(c, []int{1, 0, 1})
 	fmt.Println(out, errno)
+	likely, errno := latch.Chances(c, 2)
+	fmt.Println(likely, errno)
+	small, errno := latch.Slim(c)
+	fmt.Println(small, errno)
 	// Output:
 	// 0 0
 	// "aag 2 1 1 1 0\n2\n4 2 0\n4\n" 0
 	// [0 1 0] 0
+	// [0.5] 0
+	// {1 [{2 0}] [] [4]} 0
 }

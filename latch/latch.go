@@ -3,7 +3,9 @@ package latch
 
 import (
 	"latch/api"
+	"latch/chances"
 	"latch/circuit"
+	"latch/slim"
 	"latch/text"
 )
 
@@ -47,10 +49,23 @@ func rightInputs(c api.Circuit, in []int) bool {
 }
 
 // Slim makes a circuit smaller (P5).
-func Slim(c api.Circuit) (api.Circuit, api.Errno) { return api.Circuit{}, api.OK }
+func Slim(c api.Circuit) (api.Circuit, api.Errno) {
+	if !circuit.Right(c) {
+		return api.Circuit{}, api.ErrCircuit
+	}
+	return slim.Of(c), api.OK
+}
 
 // Chances tells how likely outputs are (P6).
-func Chances(c api.Circuit, steps int) ([]float64, api.Errno) { return nil, api.OK }
+func Chances(c api.Circuit, steps int) ([]float64, api.Errno) {
+	if !circuit.Right(c) {
+		return nil, api.ErrCircuit
+	}
+	if steps < 1 || steps > api.MaxSteps {
+		return nil, api.ErrSteps
+	}
+	return chances.Of(c, steps), api.OK
+}
 
 // Compare tells whether two circuits do the same (P7).
 func Compare(a api.Circuit, b api.Circuit) (api.Answer, api.Errno) { return api.Answer{}, api.OK }
