@@ -90,25 +90,16 @@ func TestChancesOfManyCircuits(t *testing.T) {
 // countsByWords counts in whole numbers, of all inputs of so many steps, by
 // how many of them each output is 1 in the last.
 func countsByWords(c api.Circuit, steps int) []int {
-	start := make([]bool, api.MaxLatches)
-	for k, l := range c.Latches {
-		start[k] = l.Init == 1
-	}
-	ways := map[[api.MaxLatches]bool]int{[api.MaxLatches]bool(start): 1}
+	ways := map[memory]int{startByWords(c): 1}
 	var counts []int
 	for range steps {
 		counts = make([]int, len(c.Outputs))
-		then := map[[api.MaxLatches]bool]int{}
+		then := map[memory]int{}
 		for state, count := range ways {
 			for in := range 1 << c.Inputs {
-				for k, s := range c.Outputs {
-					if isOne(c, s, state[:], in) {
-						counts[k] += count
-					}
-				}
-				var next [api.MaxLatches]bool
-				for k, l := range c.Latches {
-					next[k] = isOne(c, l.Next, state[:], in)
+				out, next := stepByWords(c, state, in)
+				for k := range counts {
+					counts[k] += count * (out >> k & 1)
 				}
 				then[next] += count
 			}

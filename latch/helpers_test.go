@@ -68,9 +68,14 @@ func equal(a, b api.Circuit) bool {
 
 // randomCircuit makes a right circuit with at most so many gates.
 func randomCircuit(r *rand.Rand, gates int) api.Circuit {
-	c := api.Circuit{Inputs: r.IntN(api.MaxInputs + 1)}
+	return randomLike(r, r.IntN(api.MaxInputs+1), r.IntN(api.MaxOutputs+1), gates)
+}
+
+// randomLike makes one with so many inputs and outputs.
+func randomLike(r *rand.Rand, inputs, outputs, gates int) api.Circuit {
+	c := api.Circuit{Inputs: inputs}
 	latches, count := r.IntN(api.MaxLatches+1), r.IntN(gates+1)
-	before := c.Inputs + latches
+	before := inputs + latches
 	for k := range count {
 		below := 2 * (before + k + 1)
 		c.Gates = append(c.Gates, api.Gate{Left: r.IntN(below), Right: r.IntN(below)})
@@ -79,7 +84,7 @@ func randomCircuit(r *rand.Rand, gates int) api.Circuit {
 	for range latches {
 		c.Latches = append(c.Latches, api.Latch{Next: r.IntN(signals), Init: r.IntN(2)})
 	}
-	for range r.IntN(api.MaxOutputs + 1) {
+	for range outputs {
 		c.Outputs = append(c.Outputs, r.IntN(signals))
 	}
 	return c

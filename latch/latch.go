@@ -5,6 +5,7 @@ import (
 	"latch/api"
 	"latch/chances"
 	"latch/circuit"
+	"latch/compare"
 	"latch/slim"
 	"latch/text"
 )
@@ -68,4 +69,12 @@ func Chances(c api.Circuit, steps int) ([]float64, api.Errno) {
 }
 
 // Compare tells whether two circuits do the same (P7).
-func Compare(a api.Circuit, b api.Circuit) (api.Answer, api.Errno) { return api.Answer{}, api.OK }
+func Compare(a api.Circuit, b api.Circuit) (api.Answer, api.Errno) {
+	if !circuit.Right(a) || !circuit.Right(b) {
+		return api.Answer{}, api.ErrCircuit
+	}
+	if a.Inputs != b.Inputs || len(a.Outputs) != len(b.Outputs) {
+		return api.Answer{}, api.ErrShape
+	}
+	return compare.Of(a, b), api.OK
+}

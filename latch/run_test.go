@@ -30,9 +30,12 @@ func TestRunOfExamples(t *testing.T) {
 	}
 }
 
+// memory: the values of the latches. Those that a circuit has not stay false.
+type memory [api.MaxLatches]bool
+
 // isOne tells a signal's value by the words of the document alone, from the
 // signal back to the inputs and latches.
-func isOne(c api.Circuit, signal int, state []bool, in int) bool {
+func isOne(c api.Circuit, signal int, state memory, in int) bool {
 	if signal%2 == 1 {
 		return !isOne(c, signal-1, state, in)
 	}
@@ -49,25 +52,31 @@ func isOne(c api.Circuit, signal int, state []bool, in int) bool {
 	}
 }
 
-func runByWords(c api.Circuit, in []int) []int {
-	state := make([]bool, len(c.Latches))
+func startByWords(c api.Circuit) memory {
+	var state memory
 	for k, l := range c.Latches {
 		state[k] = l.Init == 1
 	}
-	var out []int
-	for _, n := range in {
-		told := 0
-		for k, s := range c.Outputs {
-			if isOne(c, s, state, n) {
-				told += 1 << k
-			}
+	return state
+}
+
+func stepByWords(c api.Circuit, state memory, in int) (out int, next memory) {
+	for k, s := range c.Outputs {
+		if isOne(c, s, state, in) {
+			out += 1 << k
 		}
-		out = append(out, told)
-		next := make([]bool, len(state))
-		for k, l := range c.Latches {
-			next[k] = isOne(c, l.Next, state, n)
-		}
-		state = next
+	}
+	for k, l := range c.Latches {
+		next[k] = isOne(c, l.Next, state, in)
+	}
+	return out, next
+}
+
+func runByWords(c api.Circuit, in []int) []int {
+	state := startByWords(c)
+	out := make([]int, len(in))
+	for k, n := range in {
+		out[k], state = stepByWords(c, state, n)
 	}
 	return out
 }
